@@ -2,6 +2,7 @@ package knot_test
 
 import (
 	"cmp"
+	"math"
 	"math/rand"
 	"slices"
 	"testing"
@@ -107,6 +108,26 @@ func TestByChanceOfRings(t *testing.T) {
 			}
 		}
 		r.Shuffle(len(list), func(i, j int) { list[i], list[j] = list[j], list[i] })
+		agree(t, list)
+	}
+}
+
+// Names of other types go by the order of these: texts, one the beginning of another one; numbers without a sign; parts of numbers.
+func TestByChanceOfTypes(t *testing.T) {
+	byChanceOf(t, 21, []string{"", "\x00", "a", "a\x00", "aa", "ab", "b", "\xc3\xa4", "\xff"})
+	byChanceOf(t, 22, []uint64{0, 1, 2, 1<<31 - 1, 1 << 31, 1 << 32, 1 << 63, 1<<64 - 1})
+	byChanceOf(t, 23, []int8{-128, -127, -1, 0, 1, 126, 127})
+	byChanceOf(t, 24, []float64{math.Inf(-1), -1e300, -0.5, 0, 5e-324, 0.5, 0.75, math.Inf(1)})
+}
+
+func byChanceOf[K cmp.Ordered](t *testing.T, seed int64, names []K) {
+	t.Helper()
+	r := rand.New(rand.NewSource(seed))
+	for k := range 1500 {
+		list := make([]knot.Edge[K], r.Intn(2+len(names)*(1+k%3)))
+		for i := range list {
+			list[i] = knot.Edge[K]{From: names[r.Intn(len(names))], To: names[r.Intn(len(names))]}
+		}
 		agree(t, list)
 	}
 }
